@@ -1,0 +1,1 @@
+"""Hoarseheath: callers on a heath, who answer unless they're hoarse."""
