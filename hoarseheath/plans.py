@@ -2,7 +2,7 @@
 
 from heapq import heappop, heappush
 
-from hoarseheath.errors import NoCaller
+from hoarseheath.errors import NoCaller, NoWay
 from hoarseheath.things import is_name, is_number_within, is_rising, is_tuple_within
 from hoarseheath.words import BEATS, CALLERS, REST, WAYS
 
@@ -46,6 +46,14 @@ def check_caller(plan, caller):
     """Refuse a caller that isn't there."""
     if caller not in plan[1]:
         raise NoCaller(caller)
+
+
+def find_way(plan, name):
+    """The WAY of a name; refuse one that isn't there."""
+    for way in plan[2]:
+        if way[0] == name:
+            return way
+    raise NoWay(name)
 
 
 def ways_at(plan, caller):

@@ -31,3 +31,15 @@ def is_tuple_within(thing, least, most):
 def is_rising(row):
     """Whether in a row of things of one kind each is above the one ahead."""
     return all([low < high for low, high in zip(row, row[1:])])
+
+
+def are_pairs(thing):
+    """Whether a thing is a list of pairs."""
+    return isinstance(thing, list) and all([is_tuple_within(pair, 2, 2) for pair in thing])
+
+
+def are_numbers_of(thing, callers):
+    """Whether a thing is a list of pairs (caller, number) of just these callers, in this order."""
+    if not are_pairs(thing):
+        return False
+    return [caller for caller, _ in thing] == list(callers) and all([is_number(number) for _, number in thing])
