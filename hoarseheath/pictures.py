@@ -33,9 +33,20 @@ def _is_in_step(plan, picture, way):
     return free[owing] <= heard
 
 
+def is_apart(plan, picture, way):
+    """Whether by a WAY, be it laid or not, somebody would owe, or its two would be free too far from one another."""
+    return who_owes(plan, picture, way) is not None or not _is_in_step(plan, picture, way)
+
+
 def begun(plan):
     """The picture of beat 0 in which none has called."""
     return 0, (None,) * len(plan[1])
+
+
+def with_call(plan, picture, caller):
+    """The picture in which a caller has called in the picture's own beat."""
+    lasts = lasts_by_caller(plan, picture)
+    return picture_by(plan, picture[0], {**lasts, caller: picture[0]})
 
 
 def lasts_by_caller(plan, picture):
@@ -43,10 +54,20 @@ def lasts_by_caller(plan, picture):
     return dict(zip(plan[1], picture[1]))
 
 
+def picture_by(plan, beat, lasts):
+    """The picture at a beat by what lasts tells of callers: who isn't in it hasn't called."""
+    return beat, tuple([lasts.get(caller) for caller in plan[1]])
+
+
 def free_beats(plan, picture):
     """The list of free beats, callers as in the plan."""
     beat, lasts = picture
     return [beat if last is None else max(beat, last + plan[0]) for last in lasts]
+
+
+def is_free(plan, picture, caller):
+    """Whether a caller may call in the picture's own beat."""
+    return dict(zip(plan[1], free_beats(plan, picture)))[caller] == picture[0]
 
 
 def _is_on_its_way(picture, last, beats):

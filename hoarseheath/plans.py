@@ -42,6 +42,16 @@ def _is_way(thing, rest, callers):
     return one < other and is_number_within(beats, 1, BEATS) and 2 * beats + 1 <= rest
 
 
+def way_between(name, one, other, beats):
+    """The WAY between two callers, told either way about."""
+    return name, min(one, other), max(one, other), beats
+
+
+def in_order(rest, callers, ways):
+    """The PLAN, if it's one, of callers and WAYs that are told in any order."""
+    return rest, tuple(sorted(callers)), tuple(sorted(ways))
+
+
 def check_caller(plan, caller):
     """Refuse a caller that isn't there."""
     if caller not in plan[1]:
@@ -59,10 +69,10 @@ def find_way(plan, name):
 def ways_at(plan, caller):
     """The rising list of pairs (way's name, the other caller) of a caller's ways."""
     check_caller(plan, caller)
-    return [(name, there) for name, there, _ in _ends_at(plan, caller)]
+    return [(name, there) for name, there, _ in ends_at(plan, caller)]
 
 
-def _ends_at(plan, caller):
+def ends_at(plan, caller):
     """The triples (way's name, the other caller, beats) of a caller's ways, as the ways stand in the plan."""
     return [
         (name, other if caller == one else one, beats)
@@ -80,7 +90,7 @@ def beats_from(plan, caller):
         # The first time that one comes up is the quickest way to it.
         if here not in least:
             least[here] = beats
-            for _, there, more in _ends_at(plan, here):
+            for _, there, more in ends_at(plan, here):
                 heappush(ahead, (beats + more, there))
     return least
 

@@ -252,6 +252,151 @@ def small_pictures():
     return rows
 
 
+def far_apart(rest, beats, ages):
+    """Whether by a way of so many beats two of these ages (rest is free) are out of step."""
+    owing = [(rest - mine, beats - its) for mine, its in (ages, ages[::-1]) if its < beats and mine > its + beats]
+    if owing:
+        return any(free > heard for free, heard in owing)
+    return abs(ages[0] - ages[1]) > beats
+
+
+def winding_scene(dice):
+    """A plan and a picture: waves at uneven distances round a ring, and ways across it that are in step."""
+    many, most = 3 + dice.under(6), 1 + dice.under(6)
+    rest = 2 * most + 1 + dice.under(3) * dice.under(2)
+    beats = [max(1, most - dice.under(3)) for _ in range(many)]
+    whole = sum(beats)
+    if whole < rest or rest > 24:
+        return winding_scene(dice)
+    gaps = [rest] * (1 + dice.under(whole // rest))
+    for _ in range(whole - sum(gaps)):
+        gaps[dice.under(len(gaps))] += 1
+    shift = dice.under(whole)
+    waves = [shift + sum(gaps[:at]) for at in range(len(gaps))]
+    ages = [min([rest] + [(wave - sum(beats[:at])) % whole for wave in waves]) for at in range(many)]
+    order = sorted(range(many), key=lambda at: dice.under(1000))
+    ways = [(order[at], order[(at + 1) % many], long) for at, long in enumerate(beats)]
+    age = {order[at]: ages[at] for at in range(many)}
+    for _ in range(dice.under(12)):
+        one, other, long = dice.under(many), dice.under(many), 1 + dice.under(most)
+        if one != other and len(ways) < 10 and not far_apart(rest, long, (age[one], age[other])):
+            ways.append((one, other, long))
+    beat = 50 + dice.under(3)
+    plan = (rest, NAMES[:many], tuple(
+        (name, NAMES[min(way[:2])], NAMES[max(way[:2])], way[2]) for name, way in zip("klmnopqrst", ways)
+    ))
+    return plan, (beat, tuple(None if age[at] == rest else beat - age[at] for at in range(many)))
+
+
+def ragged_scene(dice):
+    """A plan and a picture of any ages that are in step, where it so comes that all goes on for ever."""
+    while True:
+        many, most = 4 + dice.under(5), dice.pick((6, 6, 5, 4, 2))
+        rest = 2 * most + 1
+        ways = [(at, at - 1 - dice.under(min(at, 2)), most - dice.under(2)) for at in range(1, many)]
+        while len(ways) < 10:
+            one, other = dice.under(many), dice.under(many)
+            if one != other:
+                ways.append((one, other, most - dice.under(2)))
+        age = {}
+        for at in range(many):
+            near = [(age[sum(way[:2]) - at], way[2]) for way in ways if at in way[:2] and sum(way[:2]) - at in age]
+            fits = [mine for mine in range(rest + 1)
+                    if not any(far_apart(rest, long, (mine, its)) for its, long in near)]
+            if not fits:
+                break
+            age[at] = dice.pick(fits)
+        if len(age) < many:
+            continue
+        plan = (rest, NAMES[:many], tuple(
+            (name, NAMES[min(way[:2])], NAMES[max(way[:2])], way[2]) for name, way in zip("klmnopqrst", ways)
+        ))
+        picture = 50, tuple(None if age[at] == rest else 50 - age[at] for at in range(many))
+        if Field.of(plan, picture).to_come("a") is None:
+            return plan, picture
+
+
+@functools.lru_cache(maxsize=None)
+def winding_scenes(many):
+    """So many triples (plan, picture, field), all of them for ever."""
+    dice = Dice(many)
+    rows = [(winding_scene, ragged_scene)[at % 2](dice) for at in range(many)]
+    return [(plan, picture, Field.of(plan, picture)) for plan, picture in rows]
+
+
+class Far:
+    """The calls to come of a part of a field, however far on, by the first state of it that comes back."""
+
+    def __init__(self, field, caller):
+        ahead = copy.deepcopy(field)
+        self.part = ahead.part(caller)
+        self.now = ahead.beat
+        self.calls = {one: [] for one in self.part}
+        seen = {}
+        while True:
+            state = tuple(min([ahead.rest] + [ahead.beat - beat for beat in ahead.called[one][-1:]])
+                          for one in self.part)
+            if state in seen:
+                break
+            seen[state] = ahead.beat
+            for beat, one in ahead.go():
+                if one in self.calls:
+                    self.calls[one].append(beat)
+        self.back = seen[state]
+        self.many = ahead.beat - self.back
+
+    def often(self, caller):
+        return len([beat for beat in self.calls[caller] if beat > self.back])
+
+    def till(self, caller, beat):
+        """How many calls to come a caller makes up to a beat, that one too."""
+        told = 0
+        for call in self.calls[caller]:
+            if call <= beat:
+                told += 1 if call <= self.back else 1 + (beat - call) // self.many
+        return told
+
+    def call(self, caller, number):
+        """The beat of its number-th call to come."""
+        if not self.often(caller):
+            return self.calls[caller][number - 1] if number <= len(self.calls[caller]) else None
+        low, high = self.now, self.now + 1
+        while self.till(caller, high) < number:
+            high = self.now + 2 * (high - self.now)
+        while high - low > 1:
+            middle = (low + high) // 2
+            low, high = (low, middle) if self.till(caller, middle) >= number else (middle, high)
+        return high
+
+    def calls_at(self, beat):
+        """Who of the part calls in a beat that is to come."""
+        return [one for one in self.part if self.till(one, beat) > self.till(one, beat - 1)]
+
+    def round(self):
+        """(first, many, calls), looked for beat by beat; None where it gets quiet."""
+        if not any(map(self.often, self.part)):
+            return None
+        rows = {beat: self.calls_at(beat) for beat in range(self.now + 1, self.back + 3 * self.many + 1)}
+        ends = range(self.back + 1, self.back + self.many + 1)
+        many = next(many for many in range(1, self.many + 1) if all(rows[beat] == rows[beat + many] for beat in ends))
+        first = self.back + 1
+        while first - 1 in rows and rows[first - 1] == rows[first - 1 + many]:
+            first -= 1
+        often = {sum(one in rows[beat] for beat in range(first, first + many)) for one in self.part}
+        assert len(often) == 1
+        return first, many, often.pop()
+
+
+def far_picture(field, beat):
+    """The picture of a field at a beat that is to come, however far on."""
+    lasts = {}
+    for caller in field.called:
+        far = Far(field, caller)
+        number = far.till(caller, beat)
+        lasts[caller] = far.call(caller, number) if number else ([None] + field.called[caller])[-1]
+    return beat, tuple(lasts[caller] for caller in sorted(lasts))
+
+
 def is_plain(thing):
     return type(thing) is int
 
