@@ -5,7 +5,7 @@ from itertools import combinations
 from hoarseheath.beats import next_picture
 from hoarseheath.errors import NoWay
 from hoarseheath.heights import heights
-from hoarseheath.pictures import begun, free_beats, is_apart, on_ways, with_call
+from hoarseheath.pictures import begun, is_apart, on_ways, with_call
 from hoarseheath.plans import check_caller, find_way, part_of
 
 
@@ -60,14 +60,9 @@ def kindling(plan, way):
     one = found[1]
     left = cut_out(plan, [way])
     now = with_call(left, begun(left), one)
-    while not _is_all_over(left, now):
+    # When no call is on its way any more nobody owes, and by a way that's laid then no ring would wind.
+    while on_ways(left, now):
         if not is_apart(plan, now, found) and heights(plan, now, one) is None:
             return now[0]
         now = next_picture(left, now)
-    # From here on nothing changes, and by the way nobody would wind.
     return None
-
-
-def _is_all_over(plan, picture):
-    """Whether no call is on its way and all may call."""
-    return not on_ways(plan, picture) and max(free_beats(plan, picture)) == picture[0]

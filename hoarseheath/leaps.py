@@ -31,8 +31,8 @@ def calls_in(plan, picture, caller, first, behind):
     """How many calls to come of a caller lie in the beats from first up to ahead of behind."""
     check_caller(plan, caller)
     course = course_of(plan, picture, caller, behind)
-    # With first at or above behind there is no such beat.
-    return max(0, course.ahead_of(caller, behind) - course.ahead_of(caller, min(first, behind)))
+    # With first above behind there is no such beat.
+    return course.ahead_of(caller, behind) - course.ahead_of(caller, min(first, behind))
 
 
 def call_at(plan, picture, caller, number):
