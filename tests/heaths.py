@@ -8,6 +8,27 @@ import unittest
 
 NAMES = tuple("abcdefgh")
 
+# Two rings of unlike pace, each a part.
+RINGS = (
+    5,
+    ("a", "b", "c", "d", "e", "f", "g"),
+    (
+        ("p", "a", "b", 2), ("q", "b", "c", 2), ("r", "a", "c", 1),
+        ("s", "d", "e", 2), ("t", "e", "f", 2), ("u", "f", "g", 2), ("v", "d", "g", 1),
+    ),
+)
+WAVES = (9, (5, 7, 9, 3, 5, 7, 9))
+# Two rings, the one a beat slower, and ways between them so long that the quicker one takes some hundred beats to win.
+LATE = (
+    13,
+    ("a", "b", "c", "d", "e", "f", "g", "h"),
+    (
+        ("k", "a", "g", 5), ("l", "e", "f", 6), ("m", "c", "h", 6), ("n", "c", "e", 6), ("o", "g", "h", 6),
+        ("p", "b", "f", 6), ("q", "b", "e", 6), ("r", "a", "d", 6), ("s", "d", "g", 6),
+    ),
+)
+SLOW = (100, (97, 100, 88, 92, 97, 91, 99, 93))
+
 
 class Dice:
     """Numbers that look like chance and are the same each time."""
@@ -542,6 +563,32 @@ def twice_otherwise(thing, many):
         if again:
             rows.append(dice.pick(again))
     return [row for row in rows if repr(row) != repr(thing)]
+
+
+def texts_otherwise(text, words, many, seed):
+    """Some texts with one thing otherwise or two: words, and rows out, twice, exchanged."""
+    dice = Dice(seed)
+    texts = []
+    for _ in range(many):
+        rows = [row.split(" ") for row in text.split("\n")]
+        for _ in range(1 + dice.under(2)):
+            kind, at = dice.under(6), dice.under(len(rows))
+            spot = dice.under(len(rows[at]) or 1)
+            if kind == 0:
+                rows[at][spot:spot + 1] = [dice.pick(words)]
+            elif kind == 1:
+                rows[at].insert(spot, dice.pick(words))
+            elif kind == 2:
+                del rows[at][spot:spot + 1]
+            elif kind == 3 and len(rows) > 1:
+                del rows[at]
+            elif kind == 4:
+                rows.insert(at, [*dice.pick(rows)])
+            else:
+                other = dice.under(len(rows))
+                rows[at], rows[other] = rows[other], rows[at]
+        texts.append("\n".join(" ".join(row) for row in rows))
+    return texts
 
 
 def lists_in(thing):

@@ -8,7 +8,7 @@ from hoarseheath.heights import heights, winding
 from hoarseheath.pictures import begun, is_picture, on_ways
 from hoarseheath.plans import is_plan
 from tests.heaths import (
-    NAMES, Asking, Dice, Field, circling, scenes, shifted, small_pictures, turned, winding_scenes,
+    NAMES, RINGS, WAVES, Asking, Dice, Field, circling, scenes, shifted, small_pictures, turned, winding_scenes,
 )
 
 # A ring round which a call goes on for ever, and beside it a part that gets quiet and one alone.
@@ -32,15 +32,6 @@ SHARED = (
     (("u", "a", "b", 1), ("v", "b", "c", 1), ("w", "a", "c", 1), ("x", "c", "d", 1), ("y", "a", "d", 1)),
 )
 OPPOSED = (2, (0, 1, 2, 1))
-RINGS = (
-    5,
-    ("a", "b", "c", "d", "e", "f", "g"),
-    (
-        ("p", "a", "b", 2), ("q", "b", "c", 2), ("r", "a", "c", 1),
-        ("s", "d", "e", 2), ("t", "e", "f", 2), ("u", "f", "g", 2), ("v", "d", "g", 1),
-    ),
-)
-WAVES = (9, (5, 7, 9, 3, 5, 7, 9))
 ALONE = (3, ("ash",), ())
 
 

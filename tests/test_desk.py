@@ -5,7 +5,7 @@ from hoarseheath.errors import Apart, BadPlan, BadRow, Endless, Hoarse, NoCaller
 from hoarseheath.heath import Heath
 from hoarseheath.heights import heights
 from hoarseheath.plantexts import plan_in
-from tests.heaths import Asking, Dice
+from tests.heaths import Asking, Dice, texts_otherwise
 from tests.test_plantexts import first_bad_row
 
 HEATH = "heath 13\ncaller ash\ncaller elm\ncaller fir\ncaller oak\nway brook ash oak 6\nway lane ash elm 2\nway path elm oak 3"
@@ -280,27 +280,8 @@ class Answers(Asking):
     def test_texts_with_things_otherwise(self):
         good = 0
         words = ("call", "go", "lay", "begin", "heath", "caller", "way", "ash", "moor", "0", "1", "07", "100", "", "x", "rest", "-")
-        dice = Dice(20)
         text = HEATH + "\nbegin\ncall ash\ngo 3\nlay moor fir ash 4\nbeat\npace oak\nundo"
-        for _ in range(3000):
-            rows = [row.split(" ") for row in text.split("\n")]
-            for _ in range(1 + dice.under(2)):
-                kind, at = dice.under(6), dice.under(len(rows))
-                spot = dice.under(len(rows[at]) or 1)
-                if kind == 0:
-                    rows[at][spot:spot + 1] = [dice.pick(words)]
-                elif kind == 1:
-                    rows[at].insert(spot, dice.pick(words))
-                elif kind == 2:
-                    del rows[at][spot:spot + 1]
-                elif kind == 3 and len(rows) > 1:
-                    del rows[at]
-                elif kind == 4:
-                    rows.insert(at, [*dice.pick(rows)])
-                else:
-                    other = dice.under(len(rows))
-                    rows[at], rows[other] = rows[other], rows[at]
-            other = "\n".join(" ".join(row) for row in rows)
+        for other in texts_otherwise(text, words, 3000, 20):
             bad = first_row_not_so_written(other)
             if bad is None:
                 good += 1

@@ -5,7 +5,8 @@ from hoarseheath.leaps import call_at, calls_in, picture_at
 from hoarseheath.pictures import begun, is_picture
 from hoarseheath.rounds import round_of
 from tests.heaths import (
-    Asking, Far, Field, circling, far_picture, scenes, shifted, small_pictures, winding_scenes,
+    LATE, RINGS, SLOW, WAVES, Asking, Far, Field, circling, far_picture, scenes, shifted, small_pictures,
+    winding_scenes,
 )
 
 # A ring round which a call goes on for ever, and beside it a part that gets quiet and one alone.
@@ -17,26 +18,6 @@ BOTH = (
 GOING = (2, (0, 2, 1, None, 2, None))
 LINE = (5, ("a", "b", "c", "d", "e"), tuple((name, one, other, 2) for name, one, other in zip("uvwx", "abcd", "bcde")))
 TWICE = (5, (5, 2, 4, None, None))
-# Two rings of unlike pace, each a part.
-RINGS = (
-    5,
-    ("a", "b", "c", "d", "e", "f", "g"),
-    (
-        ("p", "a", "b", 2), ("q", "b", "c", 2), ("r", "a", "c", 1),
-        ("s", "d", "e", 2), ("t", "e", "f", 2), ("u", "f", "g", 2), ("v", "d", "g", 1),
-    ),
-)
-WAVES = (9, (5, 7, 9, 3, 5, 7, 9))
-# Two rings, the one a beat slower: till all comes round some hundred beats go by.
-LATE = (
-    13,
-    ("a", "b", "c", "d", "e", "f", "g", "h"),
-    (
-        ("k", "a", "g", 5), ("l", "e", "f", 6), ("m", "c", "h", 6), ("n", "c", "e", 6), ("o", "g", "h", 6),
-        ("p", "b", "f", 6), ("q", "b", "e", 6), ("r", "a", "d", 6), ("s", "d", "g", 6),
-    ),
-)
-SLOW = (100, (97, 100, 88, 92, 97, 91, 99, 93))
 ALONE = (3, ("ash",), ())
 FAR = 10 ** 12
 

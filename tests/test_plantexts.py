@@ -3,7 +3,7 @@ import re
 from hoarseheath.errors import BadRow
 from hoarseheath.plans import is_plan
 from hoarseheath.plantexts import plan_in, plan_text
-from tests.heaths import NAMES, Asking, Dice, scenes, winding_scenes
+from tests.heaths import NAMES, Asking, scenes, texts_otherwise, winding_scenes
 
 PLAN = (13, ("ash", "elm", "oak"), (("brook", "ash", "oak", 6), ("lane", "ash", "elm", 1), ("path", "elm", "oak", 2)))
 TEXT = "heath 13\ncaller ash\ncaller elm\ncaller oak\nway brook ash oak 6\nway lane ash elm 1\nway path elm oak 2"
@@ -190,28 +190,10 @@ class PlanIn(Asking):
         self.assertGreater(good, 100)
 
     def test_two_things_otherwise(self):
-        dice = Dice(19)
-        words = ("heath", "caller", "way", "ash", "elm", "oak", "fir", "brook", "lane", "zoo", "0", "1", "2", "6", "13", "", "x")
+        words = ("heath", "caller", "way", "ash", "elm", "oak", "fir", "brook", "lane", "zoo", "0", "1", "2", "13", "", "x")
         good = 0
-        for _ in range(4000):
-            rows = [row.split(" ") for row in TEXT.split("\n")]
-            for _ in range(1 + dice.under(2)):
-                kind, at = dice.under(6), dice.under(len(rows))
-                spot = dice.under(len(rows[at]) or 1)
-                if kind == 0:
-                    rows[at][spot:spot + 1] = [dice.pick(words)]
-                elif kind == 1:
-                    rows[at].insert(spot, dice.pick(words))
-                elif kind == 2:
-                    del rows[at][spot:spot + 1]
-                elif kind == 3 and len(rows) > 1:
-                    del rows[at]
-                elif kind == 4:
-                    rows.insert(at, [*dice.pick(rows)])
-                else:
-                    other = dice.under(len(rows))
-                    rows[at], rows[other] = rows[other], rows[at]
-            good += self.check("\n".join(" ".join(row) for row in rows)) is None
+        for text in texts_otherwise(TEXT, words, 4000, 19):
+            good += self.check(text) is None
         self.assertGreater(good, 100)
 
     def test_any_signs(self):

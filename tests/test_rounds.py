@@ -5,7 +5,8 @@ from hoarseheath.paces import pace
 from hoarseheath.pictures import begun, is_picture
 from hoarseheath.rounds import round_of
 from tests.heaths import (
-    Asking, Far, Field, circling, in_lowest_terms, scenes, shifted, small_pictures, winding_scenes,
+    LATE, RINGS, SLOW, WAVES, Asking, Far, Field, circling, in_lowest_terms, scenes, shifted, small_pictures,
+    winding_scenes,
 )
 
 # A ring round which a call goes on for ever, and beside it a part that gets quiet and one alone.
@@ -15,26 +16,6 @@ BOTH = (
     (("u", "a", "c", 1), ("v", "c", "e", 1), ("w", "a", "e", 1), ("x", "b", "d", 1), ("y", "b", "d", 1)),
 )
 GOING = (2, (0, 2, 1, None, 2, None))
-# Two rings of unlike pace, each a part.
-RINGS = (
-    5,
-    ("a", "b", "c", "d", "e", "f", "g"),
-    (
-        ("p", "a", "b", 2), ("q", "b", "c", 2), ("r", "a", "c", 1),
-        ("s", "d", "e", 2), ("t", "e", "f", 2), ("u", "f", "g", 2), ("v", "d", "g", 1),
-    ),
-)
-WAVES = (9, (5, 7, 9, 3, 5, 7, 9))
-# Two rings, the one a beat slower, and ways between them so long that the quicker one takes long to win.
-LATE = (
-    13,
-    ("a", "b", "c", "d", "e", "f", "g", "h"),
-    (
-        ("k", "a", "g", 5), ("l", "e", "f", 6), ("m", "c", "h", 6), ("n", "c", "e", 6), ("o", "g", "h", 6),
-        ("p", "b", "f", 6), ("q", "b", "e", 6), ("r", "a", "d", 6), ("s", "d", "g", 6),
-    ),
-)
-SLOW = (100, (97, 100, 88, 92, 97, 91, 99, 93))
 LATER = (
     11,
     ("a", "b", "c", "d", "e", "f", "g", "h"),
